@@ -1,0 +1,1 @@
+"""Rowsmith: rows of a machine chosen for trees of sums."""
