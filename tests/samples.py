@@ -68,3 +68,70 @@ def deep_thing(depth, kind=tuple):
     for step in range(depth - 1):
         thing = kind([thing])
     return thing
+
+
+def plainly_lies(pattern, tree):
+    """Whether a pattern lies on a tree, by the words of the document."""
+    if pattern[0] == "at":
+        return True
+    if pattern == ("any",):
+        return tree[0] == "name"
+    if pattern[0] == "from":
+        return tree[0] == "num" and tree[1] in range(pattern[1], pattern[2] + 1)
+    if tree[0] != pattern[0] or len(tree) != len(pattern):
+        return False
+    return all(plainly_lies(pattern[k], tree[k]) for k in range(1, len(pattern)))
+
+
+def plain_holes(pattern, tree):
+    """The holes of a pattern that lies on a tree, hole by hole: (place, class, tree there)."""
+    if pattern[0] == "at":
+        return [((), pattern[1], tree)]
+    found = []
+    if pattern[0] not in ("any", "from"):
+        for k in range(1, len(pattern)):
+            found += [((k - 1,) + place, cls, part) for place, cls, part in plain_holes(pattern[k], tree[k])]
+    return found
+
+
+def plain_covers(the_table, tree, cls, passed=()):
+    """All covers, by the words of the document; slow."""
+    found = []
+    for number, tile in enumerate(the_table[1]):
+        if tile[1] != cls or cls in passed or not plainly_lies(tile[2], tree):
+            continue
+        begun = [[number]]
+        for place, kind, part in plain_holes(tile[2], tree):
+            ahead = passed + (cls,) if tile[2][0] == "at" else ()
+            begun = [one + other for one in begun for other in plain_covers(the_table, part, kind, ahead)]
+        found += begun
+    return found
+
+
+def random_pattern(chance, classes, depth):
+    """Some pattern, no deeper than told."""
+    kind = chance.randrange(8) if depth > 1 else chance.randrange(4)
+    if kind < 2:
+        return ("at", chance.choice(classes))
+    if kind == 2:
+        return ("any",)
+    if kind == 3:
+        return chance.choice([("from", 0, 1), ("from", 1, 7), ("from", 7, 9), ("from", 0, MOST), ("from", 255, MOST)])
+    if kind == 4:
+        return ("turn", random_pattern(chance, classes, depth - 1))
+    return (("sum", "less", "by")[kind - 5], random_pattern(chance, classes, depth - 1),
+            random_pattern(chance, classes, depth - 1))
+
+
+def random_table(chance, tiles):
+    """Some table of one to three classes, most trees of which have covers."""
+    classes = "abc"[:chance.randrange(1, 4)]
+    found = [(chance.choice(classes), ("any",), 2), (chance.choice(classes), ("from", 0, MOST), 3)]
+    for word in ("turn", "sum", "less", "by"):
+        holes = [("at", chance.choice(classes)) for k in range(1 if word == "turn" else 2)]
+        found.append((chance.choice(classes), (word,) + tuple(holes), chance.randrange(4)))
+    while len(found) < tiles:
+        tile = (chance.choice(classes), random_pattern(chance, classes, 3), chance.randrange(6))
+        if tile[1] != ("at", tile[0]):
+            found.append(tile)
+    return table(classes, *found)

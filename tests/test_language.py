@@ -12,7 +12,9 @@ PACKAGE = pathlib.Path(__file__).resolve().parent.parent / "rowsmith"
 STAGES = [
     {"errors": "RowsmithError NoText NoName NoRow NotRight TooMany NoExchange NoLine"},
     {"trees": "is_name is_tree parts places tree_at pieces within names_in worth", "treetexts": "shown read"},
-    {"tables": "is_table holes leaves"},
+    {"tables": "is_table holes leaves", "tabletexts": "shown_table read_table"},
+    {"covers": "lies bears is_cover price", "counts": "how_many all_covers"},
+    {"labels": "labels is_paper"},
 ]
 # What all stages have in common stands here, in no stage.
 HELPER = "shapes"
