@@ -54,6 +54,11 @@ def table(classes, *tiles):
     return (tuple(classes), tuple((names[k], tile[0], tile[1], tile[2]) for k, tile in enumerate(tiles)))
 
 
+# Class r: 0 any, 1 small numbers, 2 sum of two, 3 turn, 4 sum of a product and a number; m: 5 a product; passes 6, 7.
+PLAIN = table("rm", ("r", ("any",), 2), ("r", ("from", 0, 9), 1), ("r", ("sum", ("at", "r"), ("at", "r")), 3),
+              ("r", ("turn", ("at", "r")), 4), ("r", ("sum", ("by", ("at", "r"), ("at", "m")), ("from", 5, 7)), 6),
+              ("m", ("by", ("at", "r"), ("at", "r")), 5), ("r", ("at", "m"), 1), ("m", ("at", "r"), 10))
+
 # Things of all kinds that are neither a tree nor a table nor a cover nor a paper, whatever these are of.
 ODD_THINGS = [
     None, True, False, 0, 1, -1, 10 ** 59, "", "a", "num", "turn", (), [], (None,), [None], ((),), ([],), (True,),

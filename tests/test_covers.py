@@ -4,17 +4,12 @@ import random
 import unittest
 
 from rowsmith.covers import bears, is_cover, lies, price
-from samples import (MOST, ODD_THINGS, deep_thing, name, num, plain_covers, plain_holes, plainly_lies, random_pattern,
-                     random_table, random_tree, table, turned)
+from samples import (MOST, ODD_THINGS, PLAIN, deep_thing, name, num, plain_covers, plain_holes, plainly_lies,
+                     random_pattern, random_table, random_tree, table, turned)
 
 A = name("a")
 AT = ("at", "r")
 ANY = ("any",)
-
-# Class r: 0 any, 1 small numbers, 2 sum of two, 3 turn, 4 sum of a product and a number; m: 5 a product; passes 6, 7.
-PLAIN = table("rm", ("r", ANY, 2), ("r", ("from", 0, 9), 1), ("r", ("sum", AT, AT), 3), ("r", ("turn", AT), 4),
-              ("r", ("sum", ("by", AT, ("at", "m")), ("from", 5, 7)), 6), ("m", ("by", AT, AT), 5),
-              ("r", ("at", "m"), 1), ("m", AT, 10))
 
 
 class TestLies(unittest.TestCase):

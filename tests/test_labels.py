@@ -5,15 +5,12 @@ from rowsmith.covers import price
 from rowsmith.labels import is_paper, labels
 from rowsmith.tables import is_table
 from rowsmith.trees import places, tree_at
-from samples import (MOST, ODD_THINGS, bushy, comb, deep_thing, name, num, plain_covers, plain_holes, plainly_lies,
-                     random_table, random_tree, table, turned)
+from samples import (MOST, ODD_THINGS, PLAIN, bushy, comb, deep_thing, name, num, plain_covers, plain_holes,
+                     plainly_lies, random_table, random_tree, table, turned)
 
 A = name("a")
 AT = ("at", "r")
 ANY = ("any",)
-PLAIN = table("rm", ("r", ANY, 2), ("r", ("from", 0, 9), 1), ("r", ("sum", AT, AT), 3), ("r", ("turn", AT), 4),
-              ("r", ("sum", ("by", AT, ("at", "m")), ("from", 5, 7)), 6), ("m", ("by", AT, AT), 5),
-              ("r", ("at", "m"), 1), ("m", AT, 10))
 
 
 def plain_label(some, tree):
