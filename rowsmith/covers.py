@@ -1,6 +1,6 @@
 """Where patterns lie, what they bear, and covers of trees."""
 
-from rowsmith.shapes import is_pass, is_whole, parts_of
+from rowsmith.shapes import is_pass, is_whole, lies_on_leaf, parts_of
 from rowsmith.tables import holes, leaves
 from rowsmith.trees import parts, tree_at
 
@@ -9,10 +9,8 @@ def lies(pattern, tree):
     """Whether a pattern lies on a tree."""
     if pattern[0] == "at":
         return True
-    if pattern[0] == "any":
-        return tree[0] == "name"
-    if pattern[0] == "from":
-        return tree[0] == "num" and pattern[1] <= tree[1] <= pattern[2]
+    if pattern[0] in ("any", "from"):
+        return lies_on_leaf(pattern, tree)
     if pattern[0] != tree[0]:
         return False
     return all([lies(inner, part) for inner, part in zip(parts_of(pattern), parts(tree))])

@@ -1,4 +1,4 @@
-"""What trees and patterns have in common: signs with parts, places, and how they are written and read.
+"""What trees and patterns have in common: signs with parts, places, how they are written and read, how they meet.
 
 A shape is a tree or a pattern. It has signs with parts, and leaves, which each caller knows by itself.
 """
@@ -12,6 +12,8 @@ LETTERS = "abcdefghijklmnopqrstuvwxyz"
 FIGURES = "0123456789"
 LONGEST_NAME = 8
 GREATEST = 1000000000000000000
+TREE_PIECES = 200
+TREE_WITHIN = 40
 
 
 def is_whole(thing):
@@ -73,9 +75,136 @@ def shape_at(shape, place):
     return here
 
 
+def reckoned(shape, of_leaf, of_sign):
+    """What a shape comes to: of_leaf tells it of a leaf, of_sign of a sign's word and what its parts come to."""
+    if shape[0] not in SIGNS:
+        return of_leaf(shape)
+    return of_sign(shape[0], [reckoned(part, of_leaf, of_sign) for part in parts_of(shape)])
+
+
+def reckoned_web(web, of_leaf, of_sign):
+    """What each tree of a web comes to, a list; a piece comes to what its tree does."""
+    found = []
+    for tree in web:
+        found.append(reckoned(tree, lambda leaf: found[leaf[1]] if leaf[0] == "piece" else of_leaf(leaf), of_sign))
+    return found
+
+
+def sign_worth(word, worths):
+    """The worth of a sign whose parts have these worths."""
+    if word == "turn":
+        return -worths[0]
+    if word == "sum":
+        return worths[0] + worths[1]
+    if word == "less":
+        return worths[0] - worths[1]
+    return worths[0] * worths[1]
+
+
+def lies_on_leaf(pattern, tree):
+    """Whether any or from lies on a tree."""
+    if pattern[0] == "any":
+        return tree[0] == "name"
+    return tree[0] == "num" and pattern[1] <= tree[1] <= pattern[2]
+
+
 def is_pass(tile):
     """Whether a tile of a table is a pass: its whole pattern is a hole."""
     return tile[2][0] == "at"
+
+
+def columns_of(table):
+    """The classes and, behind them, each different piece that is no hole and stands within a pattern."""
+    found = list(table[0])
+    for tile in table[1]:
+        inner = [shape_at(tile[2], place) for place in places_of(tile[2])[1:]]
+        for piece in inner:
+            if piece[0] != "at" and piece not in found:
+                found.append(piece)
+    return found
+
+
+class Wiring:
+    """By which rules the prices of a tree for a table's columns come from those of its parts.
+
+    Columns are told by their numbers. A rule of a sign is a tuple (column, price, draws): it gives its column the
+    price and, part by part, what the part has for the column on which it draws, if it has something there. A rule
+    of leaves is a tuple (column, price, leaf). A lead is a tuple (from, to, price): the least price of passes alone.
+    """
+
+    def __init__(self, table):
+        self.classes = table[0]
+        self.columns = columns_of(table)
+        self.leads = pass_leads(table)
+        self.leaf_rules = []
+        self.sign_rules = {}
+        for word in SIGNS:
+            self.sign_rules[word] = []
+        for tile in table[1]:
+            if not is_pass(tile):
+                self.wire(tile[1], tile[3], tile[2])
+        for part in self.columns[len(self.classes):]:
+            self.wire(part, 0, part)
+
+    def wire(self, column, price, pattern):
+        """Take in the rule by which a pattern gives a column a price."""
+        number = self.columns.index(column)
+        if pattern[0] in SIGNS:
+            draws = [part[1] if part[0] == "at" else part for part in parts_of(pattern)]
+            self.sign_rules[pattern[0]].append((number, price, [self.columns.index(draw) for draw in draws]))
+        else:
+            self.leaf_rules.append((number, price, pattern))
+
+
+def lower(numbers, at, number):
+    """Put a number into a list where there is None or a greater one."""
+    if numbers[at] is None or number < numbers[at]:
+        numbers[at] = number
+
+
+def pass_leads(table):
+    """The least prices of passes alone: tuples (from, to, price), for each two unlike classes that they join."""
+    classes = table[0]
+    steps = [(classes.index(tile[2][1]), classes.index(tile[1]), tile[3]) for tile in table[1] if is_pass(tile)]
+    found = []
+    for start in range(len(classes)):
+        prices = [None] * len(classes)
+        prices[start] = 0
+        # A way through unlike classes has fewer steps than there are classes.
+        for step in range(len(classes) - 1):
+            for ahead, to, price in steps:
+                if prices[ahead] is not None:
+                    lower(prices, to, prices[ahead] + price)
+        found.extend([(start, to, price) for to, price in enumerate(prices) if price is not None and to != start])
+    return found
+
+
+def with_passes(wiring, prices):
+    """The prices for all columns, those by passes among them, from the prices without passes."""
+    found = list(prices)
+    for ahead, to, price in wiring.leads:
+        if prices[ahead] is not None:
+            lower(found, to, prices[ahead] + price)
+    return found
+
+
+def leaf_prices(wiring, leaf):
+    """The prices of a number or a name for all columns."""
+    found = [None] * len(wiring.columns)
+    for column, price, pattern in wiring.leaf_rules:
+        if lies_on_leaf(pattern, leaf):
+            lower(found, column, price)
+    return with_passes(wiring, found)
+
+
+def sign_prices(wiring, word, parts):
+    """The prices of a sign for all columns, from those of its parts."""
+    found = [None] * len(wiring.columns)
+    for column, price, draws in wiring.sign_rules[word]:
+        drawn = [prices[draw] for prices, draw in zip(parts, draws)]
+        if None not in drawn:
+            lower(found, column, price + sum(drawn))
+    return with_passes(wiring, found)
 
 
 def show_shape(shape, show_leaf):

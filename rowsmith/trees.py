@@ -1,10 +1,8 @@
 """Names, trees, their places and their worths."""
 
 from rowsmith.errors import NoName
-from rowsmith.shapes import LETTERS, LONGEST_NAME, is_number, is_shape, parts_of, places_of, shape_at
-
-MOST_PIECES = 200
-MOST_WITHIN = 40
+from rowsmith.shapes import LETTERS, LONGEST_NAME, TREE_PIECES, TREE_WITHIN, is_number, is_shape, parts_of, places_of
+from rowsmith.shapes import reckoned, shape_at, sign_worth
 
 
 def is_name(thing):
@@ -25,7 +23,7 @@ def is_tree_leaf(thing):
 
 def is_tree(thing):
     """Whether a thing is a tree."""
-    return is_shape(thing, is_tree_leaf, MOST_PIECES, MOST_WITHIN)
+    return is_shape(thing, is_tree_leaf, TREE_PIECES, TREE_WITHIN)
 
 
 def parts(tree):
@@ -68,20 +66,9 @@ def worth(tree, worths):
     for name in names_in(tree):
         if name not in worths:
             raise NoName(name)
-    return known_worth(tree, worths)
+    return reckoned(tree, lambda leaf: leaf_worth(leaf, worths), sign_worth)
 
 
-def known_worth(tree, worths):
-    """The worth of a tree whose names all have one."""
-    if tree[0] == "num":
-        return tree[1]
-    if tree[0] == "name":
-        return worths[tree[1]]
-    found = [known_worth(part, worths) for part in parts(tree)]
-    if tree[0] == "turn":
-        return -found[0]
-    if tree[0] == "sum":
-        return found[0] + found[1]
-    if tree[0] == "less":
-        return found[0] - found[1]
-    return found[0] * found[1]
+def leaf_worth(leaf, worths):
+    """The worth of a number, or of a name that has one."""
+    return leaf[1] if leaf[0] == "num" else worths[leaf[1]]

@@ -140,3 +140,66 @@ def random_table(chance, tiles):
         if tile[1] != ("at", tile[0]):
             found.append(tile)
     return table(classes, *found)
+
+
+def piece(number):
+    return ("piece", number)
+
+
+def plainly_opened(web, number):
+    """A tree of a web with each piece's tree in its place."""
+    def open_all(tree):
+        if tree[0] == "piece":
+            return plainly_opened(web, tree[1])
+        if tree[0] in ("num", "name"):
+            return tree
+        return (tree[0],) + tuple(open_all(part) for part in tree[1:])
+    return open_all(web[number])
+
+
+def with_pieces(chance, tree, number):
+    """A tree in which some parts are pieces of earlier trees than the one of this number."""
+    if number > 0 and chance.randrange(4) == 0:
+        return piece(chance.randrange(number))
+    if tree[0] in ("num", "name"):
+        return tree
+    return (tree[0],) + tuple(with_pieces(chance, part, number) for part in tree[1:])
+
+
+def random_web(chance, trees, depth):
+    """Some web of as many trees, none deeper than told by itself."""
+    return tuple(with_pieces(chance, random_tree(chance, depth), number) for number in range(trees))
+
+
+def bare_table(chance, tiles):
+    """Some table of one to three classes, by which many trees have no cover."""
+    classes = "abc"[:chance.randrange(1, 4)]
+    found = []
+    while len(found) < tiles:
+        tile = (chance.choice(classes), random_pattern(chance, classes, chance.randrange(1, 4)), chance.randrange(6))
+        if tile[1] != ("at", tile[0]):
+            found.append(tile)
+    return table(classes, *found)
+
+
+def plain_cost(the_table, tree, cls, had, passed=()):
+    """The least price of a tree for a class, by the words of the document; had tells what each piece has."""
+    costs = [had[tree[1]][the_table[0].index(cls)]] if tree[0] == "piece" else []
+    for tile in the_table[1]:
+        if tile[1] == cls and cls not in passed and plainly_lies(tile[2], tree):
+            ahead = passed + (cls,) if tile[2][0] == "at" else ()
+            below = [plain_cost(the_table, part, kind, had, ahead) for place, kind, part in plain_holes(tile[2], tree)]
+            costs.append(None if None in below else tile[3] + sum(below))
+    return min([cost for cost in costs if cost is not None], default=None)
+
+
+def trees_of(pieces, leaves):
+    """All trees of just as many pieces, with these leaves."""
+    found = list(leaves) if pieces == 1 else []
+    if pieces > 1:
+        found += [("turn", part) for part in trees_of(pieces - 1, leaves)]
+    for first in range(1, pieces - 1):
+        for one in trees_of(first, leaves):
+            found += [(word, one, other) for word in ("sum", "less", "by")
+                      for other in trees_of(pieces - 1 - first, leaves)]
+    return found

@@ -15,6 +15,8 @@ STAGES = [
     {"tables": "is_table holes leaves", "tabletexts": "shown_table read_table"},
     {"covers": "lies bears is_cover price", "counts": "how_many all_covers"},
     {"labels": "labels is_paper"},
+    {"webs": "is_web web_worths opened open_last web_labels", "keeping": "front_price keeping is_keeping"},
+    {"columns": "columns", "gaps": "all_sets are_sets gap is_gap"},
 ]
 # What all stages have in common stands here, in no stage.
 HELPER = "shapes"
