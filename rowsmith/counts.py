@@ -1,26 +1,8 @@
 """How many covers a tree has, and all of them."""
 
-from rowsmith.covers import lies
+from rowsmith.chains import laid_tiles
 from rowsmith.errors import TooMany
 from rowsmith.shapes import is_pass
-from rowsmith.tables import holes
-from rowsmith.trees import places, tree_at
-
-
-def laid_tiles(table, tree):
-    """For each place of a tree the tiles that lie there, but passes: tuples (number, class, spots).
-
-    Spots are the holes, tuples (place of the tree, class).
-    """
-    found = {}
-    for place in places(tree):
-        here = tree_at(tree, place)
-        found[place] = []
-        for number, tile in enumerate(table[1]):
-            if not is_pass(tile) and lies(tile[2], here):
-                spots = [(place + below, cls) for below, cls in holes(tile[2])]
-                found[place].append((number, tile[1], spots))
-    return found
 
 
 def pass_chains(table, cls):
@@ -54,7 +36,7 @@ def all_chains(table):
 def first_counts(tiles, counts):
     """For each class how many covers begin with one of these tiles of it, by the counts at the places below."""
     found = {}
-    for number, cls, spots in tiles:
+    for number, cls, price, spots in tiles:
         ways = 1
         for place, kind in spots:
             ways = ways * counts[place][kind]
@@ -85,7 +67,7 @@ def moves_at(tiles, chains, counts):
     Only those are told that lead to a cover, so that nobody follows ways without end that lead to none.
     """
     found = []
-    for number, cls, spots in tiles:
+    for number, cls, price, spots in tiles:
         if all([counts[place][kind] > 0 for place, kind in spots]):
             found.extend([(chain + [number], spots) for chain in chains.get(cls, [])])
     return found

@@ -113,6 +113,23 @@ def plain_covers(the_table, tree, cls, passed=()):
     return found
 
 
+def plain_bounds(the_table, tree, paper):
+    """What a paper has to hold against: for each tile that lies somewhere and whose holes all have something there
+    a tuple of what the paper has for its class, its price, and what it has for the holes."""
+    told = dict(paper)
+    found = []
+    for place in told:
+        here = tree
+        for number in place:
+            here = here[1 + number]
+        for title, cls, pattern, cost in the_table[1]:
+            if plainly_lies(pattern, here):
+                below = [told[place + spot][the_table[0].index(kind)] for spot, kind, part in plain_holes(pattern, here)]
+                if None not in below:
+                    found.append((told[place][the_table[0].index(cls)], cost, below))
+    return found
+
+
 def random_pattern(chance, classes, depth):
     """Some pattern, no deeper than told."""
     kind = chance.randrange(8) if depth > 1 else chance.randrange(4)

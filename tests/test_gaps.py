@@ -351,6 +351,15 @@ class TestGap(Checked):
             self.assertEqual((told[0], opened(told[1])[-1]), ("lacks", 1))
             self.assertEqual(how_many(some, open_last(told[1]), "r"), 0)
 
+    def test_one_number_alone_lacks(self):
+        for number in (0, 1, 6, MOST - 1, MOST):
+            tiles = [tile[1:] for tile in FULL[1][:1] + FULL[1][2:6]]
+            tiles += [("r", ("from", 0, number - 1), 1)] * (number > 0)
+            tiles += [("r", ("from", number + 1, MOST), 1)] * (number < MOST)
+            told = gap(table("r", *tiles), "r")
+            self.check_gap(table("r", *tiles), "r", told)
+            self.assertEqual((told[0], told[1][-1]), ("lacks", num(number)))
+
     def test_a_sign_lacks(self):
         for left_out in ("turn", "sum", "less", "by"):
             some = table("r", *[tile[1:] for tile in FULL[1][:6] if tile[2][0] != left_out])

@@ -6,7 +6,7 @@ from rowsmith.errors import NoName, NoRow, NoText, NotRight, RowsmithError, TooM
 from rowsmith.keeping import front_price, is_keeping, keeping
 from rowsmith.tables import is_table
 from rowsmith.webs import is_web, web_labels
-from samples import (ODD_THINGS, PLAIN, bare_table, bushy, deep_thing, name, num, piece, plain_cost, random_table,
+from samples import (ODD_THINGS, bare_table, bushy, deep_thing, name, num, piece, plain_cost, random_table,
                      random_web, table)
 
 A = name("a")
@@ -311,6 +311,8 @@ class TestIsKeeping(unittest.TestCase):
             self.assertIs(self.told(self.price, self.front, rest), False)
             self.assertIs(self.told(self.price, self.front, self.cuts + [cut]), False)
             self.assertIs(self.told(self.price, self.front, rest + [self.cuts[k - 1]]), False)
+            self.assertIs(self.told(self.price, self.front, self.cuts + [cut + (None,)]), False)
+            self.assertIs(self.told(self.price, self.front, self.cuts + [cut + ("a",)]), False)
             for bent in (cut[:1], cut + (None,), cut + ("a",), list(cut), (cut,), None, cut[::-1] + ("d",), 0, "a"):
                 self.assertIs(self.told(self.price, self.front, rest + [bent]), False, bent)
             for other in ("d", "", 0, False, (), [], ("a",), A):

@@ -5,8 +5,8 @@ from rowsmith.covers import price
 from rowsmith.labels import is_paper, labels
 from rowsmith.tables import is_table
 from rowsmith.trees import places, tree_at
-from samples import (MOST, ODD_THINGS, PLAIN, bushy, comb, deep_thing, name, num, plain_covers, plain_holes,
-                     plainly_lies, random_table, random_tree, table, turned)
+from samples import (MOST, ODD_THINGS, PLAIN, bushy, comb, deep_thing, name, num, plain_bounds, plain_covers,
+                     random_table, random_tree, table, turned)
 
 A = name("a")
 AT = ("at", "r")
@@ -21,19 +21,8 @@ def plain_label(some, tree):
 
 def plainly_paper(some, tree, paper):
     """Whether a list of the right form bears out, by the words of the document."""
-    told = dict(paper)
-    column = {cls: k for k, cls in enumerate(some[0])}
-    for place in told:
-        for title, cls, pattern, cost in some[1]:
-            if not plainly_lies(pattern, tree_at(tree, place)):
-                continue
-            below = [told[place + spot][column[kind]] for spot, kind, part in plain_holes(pattern, tree_at(tree, place))]
-            number = told[place][column[cls]]
-            if number is None and None not in below:
-                return False
-            if number is not None and None not in below and number > cost + sum(below):
-                return False
-    return True
+    return all(number is not None and number <= cost + sum(below) for number, cost, below
+               in plain_bounds(some, tree, paper))
 
 
 class TestLabels(unittest.TestCase):
