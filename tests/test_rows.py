@@ -161,6 +161,9 @@ class TestNotRight(unittest.TestCase):
     def test_tiles(self):
         for tile in (-1, 11, 40, 10 ** 59, -(10 ** 59), True, False, None, "0", "taa", (0,), [0], ()):
             self.wrong((tile, ("a",), (), 9))
+        # Each with what the tile that Python would take for it bears.
+        self.refused([(-1, (1, "x", "y"), (), 9)], 0)
+        self.refused([(-11, ("a",), (), 9)], 0)
         self.refused([(True, (5,), (), 9)], 0)
         self.refused([(False, ("a",), (), 9)], 0)
         one = table("r", ("r", ANY, 1))
