@@ -5,7 +5,8 @@ of a sign's rules, bit k for rule k.
 """
 
 from rowsmith.errors import TooMany
-from rowsmith.shapes import GREATEST, SIGNS, Wiring, is_whole, lies_on_leaf, reckoned_web
+from rowsmith.shapes import SIGNS, Wiring, is_whole, lies_on_leaf, reckoned_web
+from rowsmith.steps import all_leaves, is_plain, new_signs
 from rowsmith.webs import is_web, opened
 
 
@@ -18,7 +19,7 @@ def first_bits(count):
 
 
 class SetRules:
-    """By which rules the set of a tree comes from the sets of its parts.
+    """By which rules the set of a tree comes from the sets of its parts; the heights that it tells are all 0.
 
     Many parts' sets meet the same rules, and many signs come to the same set; what has been found once is kept.
     """
@@ -57,7 +58,7 @@ class SetRules:
         for column, price, pattern in self.wiring.leaf_rules:
             if lies_on_leaf(pattern, leaf):
                 found = found | self.bits[column]
-        return self.with_passes(found)
+        return (self.with_passes(found), 0)
 
     def met(self, word, part, truths):
         """The rules of a sign that a part with this set meets."""
@@ -65,10 +66,13 @@ class SetRules:
         if key not in self.met_before:
             marks = [mark for column, mark in self.draws[(word, part)] if truths & column]
             self.met_before[key] = sum(marks)
-        return self.met_before[key]
+        return (self.met_before[key], 0)
 
-    def come(self, word, met):
-        """The set of a sign all of whose parts meet these rules."""
+    def come(self, word, mets):
+        """The set of a sign whose parts meet these rules."""
+        met = self.every[word]
+        for rules in mets:
+            met = met & rules
         key = (word, met)
         if key not in self.come_before:
             found = 0
@@ -76,49 +80,7 @@ class SetRules:
                 if met & mark:
                     found = found | column
             self.come_before[key] = self.with_passes(found)
-        return self.come_before[key]
-
-
-def all_leaves(rules):
-    """A name, and a number from each stretch in which no pattern tells one from the other."""
-    starts = [0]
-    for column, price, pattern in rules.wiring.leaf_rules:
-        if pattern[0] == "from":
-            starts.extend([pattern[1], pattern[2] + 1])
-    return [("name", "a")] + [("num", start) for start in sorted(set(starts)) if start <= GREATEST]
-
-
-def mates(rules, seen, word, part):
-    """What the other part of a sign may meet, with numbers of sets that meet it; all and None where there is none."""
-    if SIGNS[word] == 1:
-        return {rules.every[word]: None}
-    return seen.get((word, 1 - part), {})
-
-
-def sign_of(word, part, number, mate):
-    """A sign with pieces of these numbers, the first one in this part; None is no piece."""
-    if mate is None:
-        return (word, ("piece", number))
-    pair = (("piece", number), ("piece", mate))
-    return (word,) + (pair if part == 0 else pair[::-1])
-
-
-def new_signs(rules, seen, number, truths):
-    """The signs with a set as a part, all but those for which an earlier set meets the same rules there.
-
-    Told as tuples (set, tree). Seen is a dict from (word, part) to dicts from what is met there to the number of the
-    first set that meets it; this set, of the told number, is put in.
-    """
-    found = []
-    for word, count in SIGNS.items():
-        for part in range(count):
-            met = rules.met(word, part, truths)
-            first = seen.setdefault((word, part), {})
-            if met not in first:
-                first[met] = number
-                for other, mate in mates(rules, seen, word, part).items():
-                    found.append((rules.come(word, met & other), sign_of(word, part, number, mate)))
-    return found
+        return (self.come_before[key], 0)
 
 
 def grown(rules, limit):
@@ -128,8 +90,8 @@ def grown(rules, limit):
     taken could come to it with fewer.
     """
     waiting = {}
-    for leaf in all_leaves(rules):
-        waiting.setdefault(rules.of_leaf(leaf), (leaf, 1))
+    for leaf in all_leaves([rules.wiring]):
+        waiting.setdefault(rules.of_leaf(leaf)[0], (leaf, 1))
     taken = {}
     sizes = []
     seen = {}
@@ -184,27 +146,19 @@ def from_tuple(rules, truths):
 
 def web_sets(rules, web):
     """The sets of a web's trees, opened."""
-    return reckoned_web(web, lambda leaf: rules.of_leaf(leaf), lambda word, parts: sign_set(rules, word, parts))
+    return reckoned_web(web, lambda leaf: rules.of_leaf(leaf)[0], lambda word, parts: sign_set(rules, word, parts))
 
 
 def sign_set(rules, word, parts):
     """The set of a sign, from its parts' sets."""
-    met = rules.every[word]
-    for part, truths in enumerate(parts):
-        met = met & rules.met(word, part, truths)
-    return rules.come(word, met)
-
-
-def is_plain(tree):
-    """Whether a tree of a web is a number, a name, or a sign whose parts are pieces."""
-    return tree[0] in ("num", "name") or (tree[0] in SIGNS and all([part[0] == "piece" for part in tree[1:]]))
+    return rules.come(word, [rules.met(word, part, truths)[0] for part, truths in enumerate(parts)])[0]
 
 
 def least_met(rules, word, part, numbers):
     """What sets meet of a sign's rules in a part, each with the least number of a set that meets it."""
     found = {}
     for truths, number in numbers.items():
-        met = rules.met(word, part, truths)
+        met = rules.met(word, part, truths)[0]
         found[met] = min(number, found.get(met, number))
     return found
 
@@ -217,7 +171,7 @@ def least_sums(rules, numbers):
         for part in range(count):
             sums = joined(sums, least_met(rules, word, part, numbers))
         for met, number in sums.items():
-            come = rules.come(word, met)
+            come = rules.come(word, [met])[0]
             found[come] = min(number, found.get(come, number))
     return found
 
@@ -236,7 +190,7 @@ def joined(one, other):
 def are_closed(rules, truths):
     """Whether each number, each name and each sign with parts of the told sets has one of them."""
     numbers = dict([(one, 0) for one in truths])
-    if not all([rules.of_leaf(leaf) in numbers for leaf in all_leaves(rules)]):
+    if not all([rules.of_leaf(leaf)[0] in numbers for leaf in all_leaves([rules.wiring])]):
         return False
     return all([come in numbers for come in least_sums(rules, numbers)])
 
@@ -276,7 +230,7 @@ def are_sizes(rules, thing):
 
 def bear_out(rules, numbers):
     """Whether the numbers of all sets are no more than trees that have them must have pieces."""
-    if any([numbers[rules.of_leaf(leaf)] != 1 for leaf in all_leaves(rules)]):
+    if any([numbers[rules.of_leaf(leaf)[0]] != 1 for leaf in all_leaves([rules.wiring])]):
         return False
     return all([numbers[come] <= 1 + total for come, total in least_sums(rules, numbers).items()])
 

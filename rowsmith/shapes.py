@@ -199,11 +199,19 @@ def leaf_prices(wiring, leaf):
 
 def sign_prices(wiring, word, parts):
     """The prices of a sign for all columns, from those of its parts."""
-    found = [None] * len(wiring.columns)
+    sums = []
     for column, price, draws in wiring.sign_rules[word]:
         drawn = [prices[draw] for prices, draw in zip(parts, draws)]
-        if None not in drawn:
-            lower(found, column, price + sum(drawn))
+        sums.append(None if None in drawn else sum(drawn))
+    return prices_of_sums(wiring, word, sums)
+
+
+def prices_of_sums(wiring, word, sums):
+    """The prices of a sign for all columns, from what each of its rules draws on all parts together, or None."""
+    found = [None] * len(wiring.columns)
+    for rule, drawn in zip(wiring.sign_rules[word], sums):
+        if drawn is not None:
+            lower(found, rule[0], rule[1] + drawn)
     return with_passes(wiring, found)
 
 
@@ -238,6 +246,14 @@ def read_number(text, at):
     if end == at:
         raise NoText(at)
     return (number, end)
+
+
+def read_whole_number(text):
+    """The number that a whole text writes; NoText where it writes none."""
+    found = read_number(text, 0)
+    if found[1] < len(text):
+        raise NoText(found[1])
+    return found[0]
 
 
 def read_shape(text, read_leaf):

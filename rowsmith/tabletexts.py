@@ -1,7 +1,7 @@
 """How a table is written and read."""
 
 from rowsmith.errors import NoRow, NoText
-from rowsmith.shapes import end_of_name, read_number, read_shape, show_shape
+from rowsmith.shapes import end_of_name, read_number, read_shape, read_whole_number, show_shape
 from rowsmith.tables import are_classes, is_table
 
 
@@ -42,21 +42,13 @@ def read_leaf(text, at):
     return read_stretch(text, at)
 
 
-def read_price(text):
-    """The number that a whole text writes."""
-    found = read_number(text, 0)
-    if found[1] < len(text):
-        raise NoText(found[1])
-    return found[0]
-
-
 def read_tile(text, row):
     """The tile that a row writes, whether it suits a table or not; NoRow with the row's number where it is none."""
     fields = text.split(" ", 3)
     if len(fields) < 4:
         raise NoRow(row)
     try:
-        price = read_price(fields[2])
+        price = read_whole_number(fields[2])
         pattern = read_shape(fields[3], read_leaf)
     except NoText:
         raise NoRow(row) from None

@@ -1,5 +1,8 @@
 """Trees, tables and things that several tests need."""
 
+from rowsmith.columns import columns
+from rowsmith.labels import labels
+
 MOST = 10 ** 18
 
 
@@ -220,3 +223,37 @@ def trees_of(pieces, leaves):
             found += [(word, one, other) for word in ("sum", "less", "by")
                       for other in trees_of(pieces - 1 - first, leaves)]
     return found
+
+
+def leaves_for(*tables):
+    """A name, and the numbers at both ends of each stretch and one beyond them."""
+    numbers = {0, MOST}
+    for some in tables:
+        for column in columns(some) + [tile[2] for tile in some[1]]:
+            if column[0] == "from":
+                numbers |= {column[1] - 1, column[1], column[2], column[2] + 1}
+    return [name("a")] + [num(number) for number in sorted(numbers) if 0 <= number <= MOST]
+
+
+def plain_prices(some, tree):
+    """A tree's prices for all columns, reckoned by labels."""
+    at = dict(labels(some, tree))
+    found = list(at[()])
+    for part in columns(some)[len(some[0]):]:
+        costs = [None]
+        if plainly_lies(part, tree):
+            costs = [at[place][some[0].index(cls)] for place, cls, below in plain_holes(part, tree)]
+        found.append(None if None in costs else sum(costs))
+    return tuple(found)
+
+
+def plain_state(some, tree):
+    """The state of a tree and its height, reckoned by labels."""
+    found = plain_prices(some, tree)
+    least = min([number for number in found if number is not None], default=0)
+    return tuple(None if number is None else number - least for number in found), least
+
+
+def with_prices(some, **prices):
+    """A table in which the tiles of these names have other prices."""
+    return some[0], tuple(tile[:3] + (prices.get(tile[0], tile[3]),) for tile in some[1])

@@ -8,8 +8,8 @@ from rowsmith.errors import NoName, NoRow, NoText, NotRight, RowsmithError, TooM
 from rowsmith.gaps import all_sets, are_sets, gap, is_gap
 from rowsmith.trees import pieces
 from rowsmith.webs import is_web, open_last, opened
-from samples import (MOST, ODD_THINGS, PLAIN, bare_table, bushy, deep_thing, name, num, piece, plain_holes,
-                     plainly_lies, plainly_opened, random_table, random_tree, table, trees_of, turned)
+from samples import (MOST, ODD_THINGS, PLAIN, bare_table, bushy, deep_thing, leaves_for, name, num, piece,
+                     plain_holes, plainly_lies, plainly_opened, random_table, random_tree, table, trees_of, turned)
 
 A = name("a")
 AT = ("at", "r")
@@ -32,15 +32,6 @@ def plain_set(some, tree):
             found.append(plainly_lies(column, tree) and all(how_many(some, part, cls) > 0 for place, cls, part
                                                             in plain_holes(column, tree)))
     return tuple(found)
-
-
-def leaves_for(some):
-    """A name, and the numbers at both ends of each stretch and one beyond them."""
-    numbers = {0, MOST}
-    for column in columns(some) + [tile[2] for tile in some[1]]:
-        if column[0] == "from":
-            numbers |= {column[1] - 1, column[1], column[2], column[2] + 1}
-    return [A] + [num(number) for number in sorted(numbers) if 0 <= number <= MOST]
 
 
 def some_leaves(some):

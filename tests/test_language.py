@@ -18,9 +18,11 @@ STAGES = [
     {"rows": "behind cell_words run", "cells": "need rows_of thrifty thrift_paper is_thrift"},
     {"webs": "is_web web_worths opened open_last web_labels", "keeping": "front_price keeping is_keeping"},
     {"columns": "columns", "gaps": "all_sets are_sets gap is_gap"},
+    {"states": "prices all_states are_states walked"},
+    {"against": "against"},
 ]
 # What several stages have in common stands here, in no stage.
-HELPERS = ("shapes", "chains")
+HELPERS = ("shapes", "chains", "steps")
 
 OWN_NAMES = set("""len range enumerate zip min max sum abs sorted reversed int str bool list tuple dict set frozenset
     isinstance ord repr any all divmod Exception ValueError TypeError KeyError IndexError LookupError
@@ -41,6 +43,11 @@ AT_TOP = (ast.ImportFrom, ast.FunctionDef, ast.ClassDef, ast.Assign, ast.Expr)
 
 def files():
     return sorted(PACKAGE.glob("*.py"))
+
+
+def called(node):
+    """The name of the function or method that a call calls."""
+    return node.func.attr if isinstance(node.func, ast.Attribute) else getattr(node.func, "id", None)
 
 
 def stage_of(module):
@@ -162,6 +169,55 @@ class TestLanguage(unittest.TestCase):
                 self.assertIn(node.func.attr, METHODS | own, (where, node.lineno))
             if isinstance(node, ast.Call) and isinstance(node.func, ast.Name) and node.func.id in ("set", "frozenset"):
                 self.assertEqual(node.keywords, [], (where, node.lineno))
+
+    def test_methods_and_values_of_classes(self):
+        methods, values = set(), set()
+        for where, node in self.each_node():
+            if isinstance(node, ast.ClassDef):
+                methods |= {inner.name for inner in node.body if isinstance(inner, ast.FunctionDef)}
+            if isinstance(node, ast.Attribute) and isinstance(node.ctx, ast.Store):
+                values.add(node.attr)
+        self.assertEqual(methods & values, set())
+        python_own = set()
+        for kind in (str, int, list, dict, set, bytes, tuple):
+            python_own |= {own for own in dir(kind) if not own.startswith("__")}
+        self.assertEqual(values & python_own - set("count index title find get join lower upper split strip copy add".split()),
+                         set())
+        self.assertEqual(methods & python_own - METHODS - {"add", "discard"}, set())
+
+    def test_walked_on_the_spot(self):
+        # What enumerate, zip, reversed, items and their like give is not kept.
+        walks = {"zip", "enumerate", "reversed", "range", "items", "keys", "values"}
+        takers = {"list", "tuple", "dict", "sorted", "sum", "any", "all", "enumerate", "zip", "min", "max", "join"}
+        for path in files():
+            tree = ast.parse(path.read_text())
+            good = set()
+            for node in ast.walk(tree):
+                if isinstance(node, (ast.For, ast.comprehension)):
+                    good.add(node.iter)
+                if isinstance(node, ast.Call) and called(node) in takers and node.args:
+                    good.add(node.args[0])
+                    if called(node) in ("zip", "enumerate"):
+                        good.update(node.args)
+            for node in ast.walk(tree):
+                if isinstance(node, ast.Call) and called(node) in walks:
+                    self.assertIn(node, good, (path.name, node.lineno))
+
+    def test_powers_and_sets(self):
+        for path in files():
+            tree = ast.parse(path.read_text())
+            beside = set()
+            for node in ast.walk(tree):
+                if isinstance(node, ast.BinOp) and isinstance(node.op, ast.Pow):
+                    self.assertIsInstance(node.right, ast.Constant, (path.name, node.lineno))
+                if isinstance(node, ast.Compare):
+                    beside.update(node.comparators)
+                    beside.add(node.left)
+                if isinstance(node, ast.Call) and called(node) in ("len", "sorted"):
+                    beside.update(node.args)
+            for node in ast.walk(tree):
+                if isinstance(node, ast.Call) and called(node) in ("set", "frozenset"):
+                    self.assertIn(node, beside, (path.name, node.lineno))
 
     def test_imports(self):
         drawn = {}
