@@ -1,9 +1,20 @@
 """Trees, tables and things that several tests need."""
 
 from rowsmith.columns import columns
+from rowsmith.errors import NoExchange, NoLine, NoName, NoRow, NoText, NotRight, RowsmithError, TooMany
 from rowsmith.labels import labels
 
 MOST = 10 ** 18
+REFUSALS = {NoText, NoName, NoRow, NotRight, TooMany, NoExchange, NoLine}
+
+
+def check_refused(case, kind, ask, *asked, **named):
+    """That something is refused with an error of this kind, under no other one's; the error."""
+    with case.assertRaises(kind, msg=str(asked)[:500]) as caught:
+        ask(*asked, **named)
+    case.assertIsInstance(caught.exception, RowsmithError)
+    case.assertNotIsInstance(caught.exception, tuple(REFUSALS - {kind}))
+    return caught.exception
 
 
 def num(number):
@@ -257,3 +268,31 @@ def plain_state(some, tree):
 def with_prices(some, **prices):
     """A table in which the tiles of these names have other prices."""
     return some[0], tuple(tile[:3] + (prices.get(tile[0], tile[3]),) for tile in some[1])
+
+
+def changed_whole(tree, word):
+    """What an exchange at the whole makes of a tree, by the words of the document; None where it can't be done."""
+    sign, inner = tree[0], [part[0] for part in tree[1:] if isinstance(part, tuple)]
+    if word == "swap" and sign in ("sum", "by"):
+        return sign, tree[2], tree[1]
+    if word == "right" and sign in ("sum", "by") and inner[0] == sign:
+        (_, first, second), third = tree[1:]
+        return sign, first, (sign, second, third)
+    if word == "left" and sign in ("sum", "by") and inner[1] == sign:
+        first, (_, second, third) = tree[1:]
+        return sign, (sign, first, second), third
+    if word == "open" and sign == "less":
+        return "sum", tree[1], ("turn", tree[2])
+    if word == "shut" and sign == "sum" and inner[1] == "turn":
+        return "less", tree[1], tree[2][1]
+    if word == "off" and sign == "turn" and inner[0] == "turn":
+        return tree[1][1]
+    return None
+
+
+def plain_changed(tree, word, place):
+    """What an exchange makes of a tree; None where it can't be done."""
+    if not place:
+        return changed_whole(tree, word)
+    part = plain_changed(tree[1 + place[0]], word, place[1:])
+    return None if part is None else tree[:1 + place[0]] + (part,) + tree[2 + place[0]:]

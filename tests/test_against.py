@@ -3,13 +3,13 @@ import unittest
 
 from rowsmith.against import against
 from rowsmith.counts import how_many
-from rowsmith.errors import NoExchange, NoLine, NoName, NoRow, NoText, NotRight, RowsmithError, TooMany
+from rowsmith.errors import TooMany
 from rowsmith.labels import labels
 from rowsmith.states import all_states
 from rowsmith.webs import is_web, open_last, opened
-from samples import (MOST, PLAIN, bare_table, leaves_for, name, num, plain_state, random_table, random_tree, table,
+from samples import (MOST, PLAIN, bare_table, check_refused, leaves_for, name, num, plain_state, random_table, random_tree, table,
                      trees_of, turned, with_prices)
-from twotables import bears_out, is_plain_ring, last_prices, plain_pairs, unrolled
+from twotables import bears_out, bent, draw_two, is_plain_ring, last_prices, plain_pairs, unrolled
 
 A = name("a")
 ANY = ("any",)
@@ -31,18 +31,9 @@ def pair_of(one, other, tree):
     return plain_state(one, tree)[0], plain_state(other, tree)[0]
 
 
-def bent(chance, some):
-    """A table some of whose prices are others."""
-    names = chance.sample([tile[0] for tile in some[1]], chance.randrange(1, 4))
-    return with_prices(some, **{title: chance.randrange(7) for title in names})
-
-
 class TestAgainst(unittest.TestCase):
     def refused(self, *asked, **named):
-        with self.assertRaises(TooMany) as caught:
-            against(*asked, **named)
-        self.assertIsInstance(caught.exception, RowsmithError)
-        self.assertNotIsInstance(caught.exception, (NoName, NotRight, NoText, NoRow, NoExchange, NoLine))
+        check_refused(self, TooMany, against, *asked, **named)
 
     def check(self, one, cls, other, kind, told, limit=None):
         """That what is told is right by the words of the document."""
@@ -267,10 +258,7 @@ class TestAgainst(unittest.TestCase):
         chance = random.Random(111)
         found = {}
         for step in range(180):
-            one = chance.choice([random_table, bare_table])(chance, chance.randrange(4, 12))
-            other = bent(chance, one) if chance.randrange(3) else random_table(chance, chance.randrange(6, 10))
-            cls = chance.choice(one[0])
-            kind = cls if cls in other[0] and chance.randrange(3) else chance.choice(other[0])
+            one, cls, other, kind = draw_two(chance)
             try:
                 told = against(one, cls, other, kind)
             except TooMany:

@@ -4,11 +4,11 @@ import unittest
 
 from rowsmith.columns import columns
 from rowsmith.counts import how_many
-from rowsmith.errors import NoName, NoRow, NoText, NotRight, RowsmithError, TooMany
+from rowsmith.errors import TooMany
 from rowsmith.gaps import all_sets, are_sets, gap, is_gap
 from rowsmith.trees import pieces
 from rowsmith.webs import is_web, open_last, opened
-from samples import (MOST, ODD_THINGS, PLAIN, bare_table, bushy, deep_thing, leaves_for, name, num, piece,
+from samples import (MOST, ODD_THINGS, PLAIN, bare_table, bushy, check_refused, deep_thing, leaves_for, name, num, piece,
                      plain_holes, plainly_lies, plainly_opened, random_table, random_tree, table, trees_of, turned)
 
 A = name("a")
@@ -66,11 +66,8 @@ class Checked(unittest.TestCase):
                 self.assertEqual(plain_set(some, plainly_opened(web, number)), sets[number])
         self.assertIs(are_sets(some, told), True)
 
-    def refused(self, ask, *asked):
-        with self.assertRaises(TooMany) as caught:
-            ask(*asked)
-        self.assertIsInstance(caught.exception, RowsmithError)
-        self.assertNotIsInstance(caught.exception, (NoName, NotRight, NoText, NoRow))
+    def refused(self, ask, *asked, **named):
+        check_refused(self, TooMany, ask, *asked, **named)
 
 
 class TestAllSets(Checked):

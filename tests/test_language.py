@@ -19,7 +19,10 @@ STAGES = [
     {"webs": "is_web web_worths opened open_last web_labels", "keeping": "front_price keeping is_keeping"},
     {"columns": "columns", "gaps": "all_sets are_sets gap is_gap"},
     {"states": "prices all_states are_states walked"},
-    {"against": "against"},
+    {"against": "against", "growing": "is_against"},
+    {"straight": "straight straight_worth apart"},
+    {"exchanges": "exchanges exchanged", "classes": "led_to cheapest is_cheapest"},
+    {"desk": "Desk"},
 ]
 # What several stages have in common stands here, in no stage.
 HELPERS = ("shapes", "chains", "steps")

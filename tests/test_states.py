@@ -2,12 +2,12 @@ import random
 import unittest
 
 from rowsmith.columns import columns
-from rowsmith.errors import NoExchange, NoLine, NoName, NoRow, NoText, NotRight, RowsmithError, TooMany
+from rowsmith.errors import TooMany
 from rowsmith.labels import labels
 from rowsmith.states import all_states, are_states, prices, walked
 from rowsmith.webs import is_web, opened
-from samples import (MOST, ODD_THINGS, PLAIN, bare_table, bushy, comb, deep_thing, leaves_for, name, num, piece,
-                     plain_prices, plain_state, plainly_opened, random_table, random_tree, random_web, table,
+from samples import (MOST, ODD_THINGS, PLAIN, bare_table, bushy, check_refused, comb, deep_thing, leaves_for, name,
+                     num, piece, plain_prices, plain_state, plainly_opened, random_table, random_tree, random_web, table,
                      trees_of, turned)
 
 A = name("a")
@@ -37,11 +37,8 @@ def turned_web(web, order):
 
 
 class Checked(unittest.TestCase):
-    def refused(self, ask, *asked):
-        with self.assertRaises(TooMany) as caught:
-            ask(*asked)
-        self.assertIsInstance(caught.exception, RowsmithError)
-        self.assertNotIsInstance(caught.exception, (NoName, NotRight, NoText, NoRow, NoExchange, NoLine))
+    def refused(self, ask, *asked, **named):
+        check_refused(self, TooMany, ask, *asked, **named)
 
 
 class TestPrices(unittest.TestCase):
@@ -245,6 +242,16 @@ class TestAllStates(Checked):
         self.check_states(some, told)
         for leaf in leaves_for(some):
             self.assertIn(plain_state(some, leaf)[0], told[1], leaf)
+        # One number alone is unlike all others, names and signs.
+        for number in (0, 1, 7, MOST):
+            tiles = [("r", ANY, 1), ("r", ("turn", R), 1)] + [("r", (word, R, R), 1) for word in ("sum", "less", "by")]
+            tiles += [("r", M, 3)] + [("m", ("from", 0, number - 1), 1)] * (number > 0)
+            tiles += [("m", ("from", number + 1, MOST), 1)] * (number < MOST)
+            some = table("rm", *tiles)
+            self.check_states(some, all_states(some))
+            self.assertEqual(set(all_states(some)[1]), {(0, None), (3, 0), (None, None)})
+            found = [tree for tree, state in zip(*all_states(some)) if state == (None, None)]
+            self.assertEqual(found, [num(number)])
 
     def test_told_lists_are_the_askers_own(self):
         first, second = all_states(PLAIN), all_states(PLAIN)

@@ -1,12 +1,30 @@
 """What two tables have to do with one another, by the words of the document; slow."""
 
+import functools
+
 from rowsmith.states import prices
 from rowsmith.trees import pieces
-from samples import leaves_for, plain_state
+from samples import bare_table, leaves_for, plain_state, random_table, with_prices
 
 WORDS = ("turn", "sum", "less", "by")
 
 
+def bent(chance, some):
+    """A table some of whose prices are others."""
+    names = chance.sample([tile[0] for tile in some[1]], chance.randrange(1, 4))
+    return with_prices(some, **{title: chance.randrange(7) for title in names})
+
+
+def draw_two(chance):
+    """Two tables, often of the same tiles, and a class of each."""
+    one = chance.choice([random_table, bare_table])(chance, chance.randrange(4, 14))
+    other = bent(chance, one) if chance.randrange(3) else random_table(chance, chance.randrange(6, 10))
+    cls = chance.choice(one[0])
+    kind = cls if cls in other[0] and chance.randrange(3) else chance.choice(other[0])
+    return one, cls, other, kind
+
+
+@functools.lru_cache(maxsize=20000)
 def plain_pair(one, other, tree):
     """Both states of a tree, and both heights."""
     mine, yours = plain_state(one, tree), plain_state(other, tree)
@@ -20,6 +38,7 @@ def signs_of(word, trees):
     return [(word, first, second) for first in trees for second in trees]
 
 
+@functools.lru_cache(maxsize=100)
 def plain_pairs(one, other, most):
     """A dict from pairs of states that trees have to a tree; None where there are more than most."""
     found = {}
